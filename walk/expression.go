@@ -2,18 +2,16 @@ package walk
 
 import (
 	"casket/api"
+	"casket/desk"
 	"casket/ops"
 )
-
-// truthOf is a value as a truth, if it is one.
-func truthOf(v api.Value) (truth, ok bool) { return v.Int == 1, v.Kind == api.Bool }
 
 // either is of a NodeOr or NodeAnd: its second kid is worked out only where the first has not settled it.
 func (r *run) either(p *part) int {
 	kids := r.program.kids[p.at]
 	if p.next > 0 {
 		w := r.pop()
-		truth, ok := truthOf(r.unbox(w))
+		truth, ok := r.Truth(w)
 		if !ok {
 			return r.refuse(api.ErrType, p.at)
 		}
@@ -58,7 +56,7 @@ func (r *run) do(at int) int {
 		return r.tell(at)
 	case api.NodeReturn:
 		if node.Kids == 0 {
-			r.push(r.null())
+			r.push(r.Null())
 		}
 		return r.leave()
 	case api.NodeBreak, api.NodeContinue:
@@ -75,28 +73,12 @@ func (r *run) do(at int) int {
 
 // literal is boxed each time: its cell may have gone since the last one.
 func (r *run) literal(at int) int {
-	w, e := r.box(literalOf(r.program.nodes[at]))
+	w, e := r.Box(desk.Literal(r.program.nodes[at]))
 	if e != api.OK {
 		return r.refuse(e, at)
 	}
 	r.push(w)
 	return going
-}
-
-func literalOf(node api.Node) api.Value {
-	switch node.Kind {
-	case api.NodeInt:
-		return api.Value{Kind: api.Int, Int: node.Int}
-	case api.NodeFloat:
-		return api.Value{Kind: api.Float, Bits: node.Bits}
-	case api.NodeText:
-		return api.Value{Kind: api.Text, Text: node.Text}
-	case api.NodeTrue:
-		return api.Value{Kind: api.Bool, Int: 1}
-	case api.NodeFalse:
-		return api.Value{Kind: api.Bool}
-	}
-	return api.Value{Kind: api.Nil}
 }
 
 // callOf calls a function of the source, or a built-in one: no name is both.
@@ -119,7 +101,7 @@ func (r *run) operate(at int) int {
 	if e != api.OK {
 		return r.refuse(e, at)
 	}
-	r.stack = r.stack[:len(r.stack)-node.Kids]
+	r.Stack = r.Stack[:len(r.Stack)-node.Kids]
 	if node.Kind != api.NodeStore { // a statement leaves nothing
 		r.push(w)
 	}
@@ -129,15 +111,15 @@ func (r *run) operate(at int) int {
 func (r *run) answer(node api.Node, kids []uint64) (uint64, api.Errno) {
 	switch node.Kind {
 	case api.NodeBinary:
-		return ops.Binary(r.heap, node.Text, kids[0], kids[1], r.roots())
+		return ops.Binary(r.Heap, node.Text, kids[0], kids[1], r.Roots())
 	case api.NodeUnary:
-		return ops.Unary(r.heap, node.Text, kids[0], r.roots())
+		return ops.Unary(r.Heap, node.Text, kids[0], r.Roots())
 	case api.NodeNot:
-		return ops.Unary(r.heap, "not", kids[0], r.roots())
+		return ops.Unary(r.Heap, "not", kids[0], r.Roots())
 	case api.NodeIndex:
-		return ops.Builtin(r.heap, "load", kids, r.roots())
+		return ops.Builtin(r.Heap, "load", kids, r.Roots())
 	case api.NodeStore:
-		return ops.Builtin(r.heap, "store", kids, r.roots())
+		return ops.Builtin(r.Heap, "store", kids, r.Roots())
 	}
-	return ops.Builtin(r.heap, node.Text, kids, r.roots())
+	return ops.Builtin(r.Heap, node.Text, kids, r.Roots())
 }

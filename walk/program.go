@@ -9,22 +9,19 @@ import (
 
 // program is a tree, and what a run asks of it again and again.
 type program struct {
-	nodes   []api.Node
-	kids    [][]int        // the places of each node's kids
-	funcs   map[string]int // their places
-	globals map[string]int // their numbers, in the order of the source
+	nodes []api.Node
+	kids  [][]int        // the places of each node's kids
+	funcs map[string]int // their places
 }
 
 func newProgram(l []api.Node) program {
-	p := program{nodes: l, kids: make([][]int, len(l)), funcs: map[string]int{}, globals: map[string]int{}}
+	p := program{nodes: l, kids: make([][]int, len(l)), funcs: map[string]int{}}
 	for at := range l {
 		p.kids[at] = slices.Collect(tree.Kids(l, at))
 	}
 	for _, at := range p.kids[0] {
 		if l[at].Kind == api.NodeFunc {
 			p.funcs[l[at].Text] = at
-		} else {
-			p.globals[l[at].Text] = len(p.globals)
 		}
 	}
 	return p

@@ -1,16 +1,18 @@
 package walk
 
-import "casket/api"
+import (
+	"casket/api"
+	"casket/desk"
+)
 
 // run is one that is under way. What it is about to do stands in its frames: it can be left behind each tick, and gone on with later.
+// On the stack what was worked out becomes a variable, and arguments become parameters, where they stand.
 type run struct {
-	*memory
+	*desk.Memory
+	desk.Tally
 	program *program
-	frames  []frame // the outermost first
-	fuel    int64
-	at      int     // the place of the node that ticked last
-	end     api.End // how it would end here
-	bytes   int     // of the lines told, with one more for each
+	globals map[string]int // their numbers
+	frames  []frame        // the outermost first
 }
 
 // frame is a function under way.
@@ -36,14 +38,14 @@ const (
 )
 
 // newRun is one of a function whose arguments are all that the stack has.
-func newRun(p *program, m *memory, at int, fuel int64) *run {
-	r := &run{program: p, memory: m, fuel: fuel}
-	r.call(at)
+func newRun(p *program, d *desk.Desk, name string, fuel int64) *run {
+	r := &run{program: p, Memory: &d.Memory, globals: d.Names.Globals, Tally: desk.NewTally(fuel)}
+	r.call(p.funcs[name])
 	return r
 }
 
-// goOn goes on till one more tick has been made: true; or to the end.
-func (r *run) goOn() bool {
+// GoOn goes on till one more tick has been made: true; or to the end.
+func (r *run) GoOn() bool {
 	for {
 		switch r.piece() {
 		case ticked:
@@ -102,24 +104,22 @@ func (r *run) done() int {
 }
 
 func (r *run) tick(at int) int {
-	if r.end.Ticks == r.fuel {
-		return r.refuse(api.ErrFuel, at)
+	if !r.Tick(r.program.nodes[at].At) {
+		return ended
 	}
-	r.end.Ticks++
-	r.at = at
 	return ticked
 }
 
 // refuse ends the run at a node.
 func (r *run) refuse(code api.Errno, at int) int {
-	r.end.Code, r.end.At = code, r.program.nodes[at].At
+	r.Refuse(code, r.program.nodes[at].At)
 	return ended
 }
 
 // call puts a function under way, whose arguments stand on top of the stack.
 func (r *run) call(at int) {
 	params := r.program.params(at)
-	f := frame{base: len(r.stack) - params, parts: []part{{at: at}}}
+	f := frame{base: len(r.Stack) - params, parts: []part{{at: at}}}
 	for _, param := range r.program.kids[at][:params] {
 		f.names = append(f.names, r.program.nodes[param].Text)
 	}
@@ -129,7 +129,7 @@ func (r *run) call(at int) {
 // leave ends the innermost function; what stands on top of the stack is its value.
 func (r *run) leave() int {
 	value := r.pop()
-	r.stack = append(r.stack[:r.frame().base], value)
+	r.Stack = append(r.Stack[:r.frame().base], value)
 	r.frames = r.frames[:len(r.frames)-1]
 	if len(r.frames) == 0 {
 		return ended
@@ -141,7 +141,7 @@ func (r *run) leave() int {
 func (r *run) forget(vars int) {
 	f := r.frame()
 	f.names = f.names[:vars]
-	r.stack = r.stack[:f.base+vars]
+	r.Stack = r.Stack[:f.base+vars]
 }
 
 // variable is where the innermost variable of a name stands.
@@ -149,17 +149,39 @@ func (r *run) variable(name string) *uint64 {
 	f := r.frame()
 	for i := len(f.names) - 1; i >= 0; i-- {
 		if f.names[i] == name {
-			return &r.stack[f.base+i]
+			return &r.Stack[f.base+i]
 		}
 	}
-	return &r.globals[r.program.globals[name]]
+	return &r.Globals[r.globals[name]]
 }
 
-// state is asked behind a tick, where the stack ends with the innermost function's variables.
-func (r *run) state() api.State {
-	s := api.State{Ticks: r.end.Ticks, Depth: len(r.frames), At: r.program.nodes[r.at].At, Out: len(r.end.Out)}
-	for _, w := range r.stack[r.frame().base:] {
-		s.Vars = append(s.Vars, r.seen(w))
+// State is asked behind a tick, where the stack ends with the innermost function's variables.
+func (r *run) State() api.State {
+	s := r.Made()
+	s.Depth = len(r.frames)
+	for _, w := range r.Stack[r.frame().base:] {
+		s.Vars = append(s.Vars, r.Seen(w))
 	}
 	return s
 }
+
+// End is asked when no function is under way, or one was refused something.
+func (r *run) End() (api.End, uint64) {
+	end := r.Ended()
+	if end.Code != api.OK {
+		return end, 0
+	}
+	return end, r.pop()
+}
+
+func (r *run) push(w uint64) { r.Stack = append(r.Stack, w) }
+
+func (r *run) pop() uint64 {
+	last := len(r.Stack) - 1
+	w := r.Stack[last]
+	r.Stack = r.Stack[:last]
+	return w
+}
+
+// top has the last n words of the stack, where they stand.
+func (r *run) top(n int) []uint64 { return r.Stack[len(r.Stack)-n:] }

@@ -22,7 +22,7 @@ func (r *run) function(p *part) int {
 		p.next = functionEnd
 		return r.begin(kids[len(kids)-1])
 	}
-	r.push(r.null())
+	r.push(r.Null())
 	return r.leave()
 }
 
@@ -59,7 +59,7 @@ func (r *run) choice(p *part) int {
 
 // branch goes into a block, or into what stands behind else.
 func (r *run) branch(at int, ways []int) int {
-	truth, ok := truthOf(r.unbox(r.pop()))
+	truth, ok := r.Truth(r.pop())
 	switch {
 	case !ok:
 		return r.refuse(api.ErrType, at)
@@ -91,7 +91,7 @@ func (r *run) whileLoop(p *part) int {
 		return r.begin(kids[0])
 	}
 	p.next = whileTick
-	truth, ok := truthOf(r.unbox(r.pop()))
+	truth, ok := r.Truth(r.pop())
 	switch {
 	case !ok:
 		return r.refuse(api.ErrType, p.at)
@@ -137,24 +137,18 @@ func (r *run) forLoop(p *part) int {
 
 // bounds takes from and to from the stack.
 func (r *run) bounds(p *part) int {
-	to, from := r.unbox(r.pop()), r.unbox(r.pop())
-	if from.Kind != api.Int || to.Kind != api.Int {
-		return r.refuse(api.ErrType, p.at)
+	to, from := r.pop(), r.pop()
+	var e api.Errno
+	if p.i, p.to, e = r.Bounds(from, to); e != api.OK {
+		return r.refuse(e, p.at)
 	}
-	if !isSmall(from.Int) || !isSmall(to.Int) {
-		return r.refuse(api.ErrRange, p.at)
-	}
-	p.i, p.to = from.Int, to.Int
 	return going
 }
-
-// isSmall tells whether a whole number needs no cell.
-func isSmall(i int64) bool { return i >= -1<<47 && i < 1<<47 }
 
 // round goes through a for's block once more, with a new variable.
 func (r *run) round(p *part, block int) int {
 	f := r.frame()
-	w, _ := r.box(api.Value{Kind: api.Int, Int: p.i}) // small, as from and to are
+	w, _ := r.Box(api.Value{Kind: api.Int, Int: p.i}) // small, as from and to are
 	p.i++
 	r.push(w)
 	f.names = append(f.names, r.program.nodes[p.at].Text)
@@ -187,14 +181,12 @@ func (r *run) means(label string, at int) bool {
 
 // tell makes what stands on top of the stack one more line.
 func (r *run) tell(at int) int {
-	line, e := ops.Told(r.heap, r.pop())
+	line, e := ops.Told(r.Heap, r.pop())
+	if e == api.OK {
+		e = r.Tell(line)
+	}
 	if e != api.OK {
 		return r.refuse(e, at)
 	}
-	if r.bytes+len(line)+1 > api.MaxOut {
-		return r.refuse(api.ErrOut, at)
-	}
-	r.bytes += len(line) + 1
-	r.end.Out = append(r.end.Out, line)
 	return going
 }

@@ -1,4 +1,4 @@
-package walk
+package desk
 
 import "slices"
 

@@ -1,4 +1,4 @@
-package walk
+package desk
 
 import (
 	"casket/api"
@@ -28,7 +28,7 @@ func isForm(r api.Raw) bool {
 }
 
 // refusal is why a raw value may not come in.
-func (m *memory) refusal(r api.Raw) api.Errno {
+func (m *Memory) refusal(r api.Raw) api.Errno {
 	switch {
 	case !isForm(r):
 		return api.ErrArg
@@ -41,22 +41,22 @@ func (m *memory) refusal(r api.Raw) api.Errno {
 }
 
 // holds tells whether a thing of that Kind is held by that number.
-func (m *memory) holds(r api.Raw) bool {
+func (m *Memory) holds(r api.Raw) bool {
 	w, held := m.held.thing(r.Ref)
-	return held && m.unbox(w).Kind == r.Kind
+	return held && m.Unbox(w).Kind == r.Kind
 }
 
 // comeIn is the word of a raw value that is right.
-func (m *memory) comeIn(r api.Raw) (uint64, api.Errno) {
+func (m *Memory) comeIn(r api.Raw) (uint64, api.Errno) {
 	v := api.Value{Kind: r.Kind, Int: r.Int, Bits: r.Bits, Text: r.Text}
 	if isThing(r.Kind) { // the number 0 of all others is a thing's, too
 		v.Ref, _ = m.held.thing(r.Ref)
 	}
-	return m.box(v)
+	return m.Box(v)
 }
 
 // take is the word of a raw value, right or not.
-func (m *memory) take(r api.Raw) (uint64, api.Errno) {
+func (m *Memory) take(r api.Raw) (uint64, api.Errno) {
 	if e := m.refusal(r); e != api.OK {
 		return 0, e
 	}
@@ -64,7 +64,7 @@ func (m *memory) take(r api.Raw) (uint64, api.Errno) {
 }
 
 // takeIn makes raw values what the stack has: all of them, or none. A refusal of a later one goes ahead of an earlier one that finds no room.
-func (m *memory) takeIn(list []api.Raw) api.Errno {
+func (m *Memory) takeIn(list []api.Raw) api.Errno {
 	for _, r := range list {
 		if e := m.refusal(r); e != api.OK {
 			return e
@@ -73,27 +73,27 @@ func (m *memory) takeIn(list []api.Raw) api.Errno {
 	for _, r := range list {
 		w, e := m.comeIn(r)
 		if e != api.OK {
-			m.stack = nil
+			m.Stack = nil
 			return e
 		}
-		m.push(w)
+		m.Stack = append(m.Stack, w)
 	}
 	return api.OK
 }
 
-// seen is the value of a word as it goes out, but that no number is given.
-func (m *memory) seen(w uint64) api.Raw {
-	v := m.unbox(w)
+// Seen is the value of a word as it goes out, but that no number is given.
+func (m *Memory) Seen(w uint64) api.Raw {
+	v := m.Unbox(w)
 	r := api.Raw{Kind: v.Kind, Int: v.Int, Bits: v.Bits, Text: v.Text}
 	if isThing(v.Kind) {
-		r.Len, _ = buf.Len(m.heap, w)
+		r.Len, _ = buf.Len(m.Heap, w)
 	}
 	return r
 }
 
 // goOut is the value of a word as it goes out: a thing is held from here on.
-func (m *memory) goOut(w uint64) api.Raw {
-	r := m.seen(w)
+func (m *Memory) goOut(w uint64) api.Raw {
+	r := m.Seen(w)
 	if isThing(r.Kind) {
 		r.Ref = m.held.number(w)
 	}
