@@ -15,9 +15,9 @@ type pair struct {
 	store func(i int, x uint64, v api.Value) api.Errno // v is x, unboxed
 }
 
-// pairOf is the pair of a thing's kind; c is its cell.
-func pairOf(h *heap.Heap, w uint64, c api.Cell) pair {
-	switch c.Kind {
+// pairOf is the pair of a thing's kind.
+func pairOf(h *heap.Heap, w uint64, kind int) pair {
+	switch kind {
 	case api.F64:
 		return doubles(h, w)
 	case api.F32:
@@ -27,7 +27,7 @@ func pairOf(h *heap.Heap, w uint64, c api.Cell) pair {
 	case api.U8:
 		return octets(h, w)
 	}
-	return words(h, w, c)
+	return words(h, w)
 }
 
 // raw reads and writes the bytes of elements of a width, the lowest first: in the buffer beneath, if w is a view.
@@ -99,9 +99,12 @@ func octets(h *heap.Heap, w uint64) pair {
 }
 
 // words are a row's: what is stored is the word itself, not what it is of.
-func words(h *heap.Heap, w uint64, c api.Cell) pair {
+func words(h *heap.Heap, w uint64) pair {
 	return pair{
-		load:  func(i int) uint64 { return c.Words[i] },
+		load: func(i int) uint64 {
+			x, _ := h.Word(w, i)
+			return x
+		},
 		store: func(i int, x uint64, _ api.Value) api.Errno { return h.Set(w, i, x) },
 	}
 }

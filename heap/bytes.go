@@ -32,7 +32,7 @@ func (h *Heap) save(id int, c api.Cell) {
 // load leads back from save.
 func (h *Heap) load(id int) api.Cell {
 	c := h.cells[id]
-	out := api.Cell{Kind: c.kind, View: c.view, Base: c.base, From: c.from, Len: c.len}
+	out := c.bare()
 	switch shape(c.kind, c.view) {
 	case number:
 		x, _ := h.store.Load(id, 0, wordBytes)

@@ -13,6 +13,11 @@ type cell struct {
 	from, len int
 }
 
+// bare leads back to what the cell was put as, but for the bytes in its extent.
+func (c cell) bare() api.Cell {
+	return api.Cell{Kind: c.kind, View: c.view, Base: c.base, From: c.from, Len: c.len}
+}
+
 // Shapes of cells.
 const (
 	shapeless = iota

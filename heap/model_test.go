@@ -395,6 +395,7 @@ func (m *model) look() {
 	}
 	for w, c := range m.have {
 		wantGet(m.t, m.h, w, c)
+		wantLook(m.t, m.h, w, c)
 	}
 	if m.h.Room() != m.units {
 		m.t.Fatalf("Room is %d; want %d", m.h.Room(), m.units)
