@@ -5,6 +5,7 @@ import (
 
 	"casket/api"
 	"casket/numtext"
+	"casket/quote"
 )
 
 // nothing is the Kind of what stands for no token.
@@ -105,54 +106,11 @@ func quoted(rest string) piece {
 	if rest[0] != '"' {
 		return piece{}
 	}
-	var text []byte
-	size := 1
-	for size < len(rest) && rest[size] != '"' {
-		b, n := spelt(rest[size:])
-		if n == 0 {
-			return piece{size: size, code: api.ErrString}
-		}
-		text = append(text, b)
-		size += n
+	text, size, ok := quote.Read(rest)
+	if !ok {
+		return piece{size: 1, code: api.ErrString}
 	}
-	if size == len(rest) {
-		return piece{size: size, code: api.ErrString}
-	}
-	return piece{token: api.Token{Kind: api.TokText, Text: string(text)}, size: size + 1}
-}
-
-// spelt is the next byte of a string, and how many bytes it is spelt with: 0, if it is none.
-func spelt(rest string) (byte, int) {
-	if rest[0] < 32 || rest[0] > 126 {
-		return 0, 0
-	}
-	if rest[0] != '\\' {
-		return rest[0], 1
-	}
-	if len(rest) < 2 {
-		return 0, 0
-	}
-	switch rest[1] {
-	case '\\', '"':
-		return rest[1], 2
-	case 'n':
-		return '\n', 2
-	case 'x':
-		return hexByte(rest)
-	}
-	return 0, 0
-}
-
-// hexByte is handed `\x` and what stands behind it.
-func hexByte(rest string) (byte, int) {
-	if len(rest) < 4 {
-		return 0, 0
-	}
-	high, low := strings.IndexByte(hexDigits, rest[2]), strings.IndexByte(hexDigits, rest[3])
-	if high < 0 || low < 0 {
-		return 0, 0
-	}
-	return byte(high<<4 | low), 4
+	return piece{token: api.Token{Kind: api.TokText, Text: text}, size: size}
 }
 
 func mark(rest string) piece {

@@ -6,12 +6,11 @@ import (
 
 	"casket/api"
 	"casket/numtext"
+	"casket/quote"
 )
 
 // kid stands among a node's tokens where those of its next kid do: no token is empty.
 const kid = ""
-
-const hexDigits = "0123456789abcdef"
 
 // printed is the text of a tree that is right. What is left to print stands in a list, not in calls: it may be deep.
 func printed(l []api.Node) string {
@@ -108,7 +107,7 @@ func ofExpression(n api.Node) []string {
 	case api.NodeFloat:
 		return []string{numtext.Float(n.Bits)}
 	case api.NodeText:
-		return []string{quoted(n.Text)}
+		return []string{quote.Write(n.Text)}
 	case api.NodeTrue:
 		return []string{"true"}
 	case api.NodeFalse:
@@ -147,27 +146,4 @@ func commas(n int) []string {
 		return nil
 	}
 	return append(slices.Repeat([]string{kid, ","}, n-1), kid)
-}
-
-// quoted is a string as a token.
-func quoted(s string) string {
-	var text strings.Builder
-	text.WriteByte('"')
-	for i := range len(s) {
-		switch b := s[i]; {
-		case b == '"' || b == '\\':
-			text.WriteByte('\\')
-			text.WriteByte(b)
-		case b == '\n':
-			text.WriteString(`\n`)
-		case b < 32 || b > 126:
-			text.WriteString(`\x`)
-			text.WriteByte(hexDigits[b>>4])
-			text.WriteByte(hexDigits[b&15])
-		default:
-			text.WriteByte(b)
-		}
-	}
-	text.WriteByte('"')
-	return text.String()
 }
