@@ -151,21 +151,3 @@ func TestBounds(t *testing.T) {
 		}
 	}
 }
-
-func TestLiteral(t *testing.T) {
-	for _, x := range []struct {
-		node api.Node
-		want api.Value
-	}{
-		{api.Node{Kind: api.NodeInt, Int: 5}, api.Value{Kind: api.Int, Int: 5}},
-		{api.Node{Kind: api.NodeFloat, Bits: 7}, api.Value{Kind: api.Float, Bits: 7}},
-		{api.Node{Kind: api.NodeText, Text: "x"}, api.Value{Kind: api.Text, Text: "x"}},
-		{api.Node{Kind: api.NodeTrue}, api.Value{Kind: api.Bool, Int: 1}},
-		{api.Node{Kind: api.NodeFalse}, api.Value{Kind: api.Bool}},
-		{api.Node{Kind: api.NodeNil}, api.Value{Kind: api.Nil}},
-	} {
-		if got := desk.Literal(x.node); got != x.want {
-			t.Errorf("%v: %v", x.node, got)
-		}
-	}
-}

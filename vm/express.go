@@ -4,7 +4,7 @@ import (
 	"slices"
 
 	"casket/api"
-	"casket/desk"
+	"casket/meaning"
 )
 
 // operand is the register in which the next node's value stands: a variable's own, as nothing that an expression does changes that; or the one at a height, where it is worked out.
@@ -50,7 +50,7 @@ func (w *writer) value(to, height int) {
 	case api.NodeCall:
 		w.call(node, to, height)
 	default:
-		w.emit(api.Instr{Op: opConst, A: to, B: w.constant(desk.Literal(node))}, node.At, height)
+		w.emit(api.Instr{Op: opConst, A: to, B: w.constant(meaning.Literal(node))}, node.At, height)
 	}
 }
 

@@ -2,8 +2,7 @@ package walk
 
 import (
 	"casket/api"
-	"casket/desk"
-	"casket/ops"
+	"casket/meaning"
 )
 
 // either is of a NodeOr or NodeAnd: its second kid is worked out only where the first has not settled it.
@@ -73,7 +72,7 @@ func (r *run) do(at int) int {
 
 // literal is boxed each time: its cell may have gone since the last one.
 func (r *run) literal(at int) int {
-	w, e := r.Box(desk.Literal(r.program.nodes[at]))
+	w, e := r.Box(meaning.Literal(r.program.nodes[at]))
 	if e != api.OK {
 		return r.refuse(e, at)
 	}
@@ -97,7 +96,7 @@ func (r *run) callOf(at int) int {
 // operate puts what chapter 10 answers of a node's kids in their place.
 func (r *run) operate(at int) int {
 	node := r.program.nodes[at]
-	w, e := r.answer(node, r.top(node.Kids))
+	w, e := meaning.Operate(r.Heap, node, r.top(node.Kids), r.Roots())
 	if e != api.OK {
 		return r.refuse(e, at)
 	}
@@ -106,20 +105,4 @@ func (r *run) operate(at int) int {
 		r.push(w)
 	}
 	return going
-}
-
-func (r *run) answer(node api.Node, kids []uint64) (uint64, api.Errno) {
-	switch node.Kind {
-	case api.NodeBinary:
-		return ops.Binary(r.Heap, node.Text, kids[0], kids[1], r.Roots())
-	case api.NodeUnary:
-		return ops.Unary(r.Heap, node.Text, kids[0], r.Roots())
-	case api.NodeNot:
-		return ops.Unary(r.Heap, "not", kids[0], r.Roots())
-	case api.NodeIndex:
-		return ops.Builtin(r.Heap, "load", kids, r.Roots())
-	case api.NodeStore:
-		return ops.Builtin(r.Heap, "store", kids, r.Roots())
-	}
-	return ops.Builtin(r.Heap, node.Text, kids, r.Roots())
 }
