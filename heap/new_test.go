@@ -1,6 +1,7 @@
 package heap_test
 
 import (
+	"strings"
 	"testing"
 
 	"casket/api"
@@ -52,4 +53,25 @@ func TestRoomStays(t *testing.T) {
 			t.Errorf("Room is %d", h.Room())
 		}
 	}
+}
+
+// A heap without bounds takes cells that need more than the units of any other one, alone and together; and nothing is swept for them.
+func TestBoundless(t *testing.T) {
+	h := heap.Boundless()
+	greatest := text(strings.Repeat("x", api.MaxBytes))
+	if heap.Need(greatest) <= api.MaxUnits {
+		t.Fatal("the greatest text is not greater than a heap")
+	}
+	first := wantPut(t, h, greatest)
+	wantPut(t, h, greatest)
+	wantPut(t, h, number(1))
+	wantGet(t, h, first, greatest)
+	n := 0
+	for range h.Cells() {
+		n++
+	}
+	if n != 3 || h.Room() < 3*api.MaxUnits {
+		t.Errorf("%d cells, room for %d units", n, h.Room())
+	}
+	wantNoPut(t, h, api.ErrArg, text(greatest.Text+"x"))
 }
