@@ -87,8 +87,11 @@ func unitsOf(n int) int { return 1 + (n+wordBytes-1)/wordBytes }
 // Need is how many units a cell takes.
 func Need(c api.Cell) int { return unitsOf(size(c)) }
 
-// right tells whether a cell may be put.
-func (h *Heap) right(c api.Cell) bool {
+// finder is the way to the cells that words lead to: the shape of one, and how many bytes of its own it has; false, if there is none.
+type finder func(w uint64) (form, n int, found bool)
+
+// right tells whether a cell may stand among those that are found.
+func right(c api.Cell, find finder) bool {
 	if !plain(c) {
 		return false
 	}
@@ -100,9 +103,9 @@ func (h *Heap) right(c api.Cell) bool {
 	case buffer:
 		return len(c.Bytes) <= api.MaxBytes && len(c.Bytes)%elementBytes(c.Kind) == 0
 	case view:
-		return h.rightView(c)
+		return rightView(c, find)
 	case row:
-		return len(c.Words) <= api.MaxUnits && h.areValues(c.Words)
+		return len(c.Words) <= api.MaxUnits && areValues(c.Words, find)
 	}
 	return false
 }
@@ -124,21 +127,21 @@ func plain(c api.Cell) bool {
 	return c.Int == 0 && c.Text == "" && len(c.Bytes) == 0 && len(c.Words) == 0 && c.Base == 0 && c.From == 0 && c.Len == 0
 }
 
-func (h *Heap) rightView(c api.Cell) bool {
-	id, held := h.find(c.Base)
-	if !held || shape(h.cells[id].kind, h.cells[id].view) != buffer {
+func rightView(c api.Cell, find finder) bool {
+	form, n, found := find(c.Base)
+	if !found || form != buffer {
 		return false
 	}
-	width, n := elementBytes(c.Kind), h.bytes(id)
+	width := elementBytes(c.Kind)
 	if c.From < 0 || c.From > n || c.From%width != 0 {
 		return false
 	}
 	return c.Len >= 0 && c.Len <= (n-c.From)/width // Len times width may wrap round
 }
 
-func (h *Heap) areValues(words []uint64) bool {
+func areValues(words []uint64, find finder) bool {
 	for _, w := range words {
-		if !h.isValue(w) {
+		if !isValue(w, find) {
 			return false
 		}
 	}
@@ -146,13 +149,13 @@ func (h *Heap) areValues(words []uint64) bool {
 }
 
 // isValue tells whether a word may stand in a row.
-func (h *Heap) isValue(w uint64) bool {
+func isValue(w uint64, find finder) bool {
 	switch word.Class(w) {
 	case api.ClassStray:
 		return false
 	case api.ClassHandle:
-		_, held := h.find(w)
-		return held
+		_, _, found := find(w)
+		return found
 	}
 	return true
 }

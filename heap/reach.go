@@ -16,6 +16,16 @@ func (h *Heap) find(w uint64) (int, bool) {
 	return int(id), true
 }
 
+// among is a finder among the cells that the heap holds.
+func (h *Heap) among(w uint64) (form, n int, found bool) {
+	id, held := h.find(w)
+	if !held {
+		return shapeless, 0, false
+	}
+	c := h.cells[id]
+	return shape(c.kind, c.view), h.bytes(id), true
+}
+
 // live tells the handles of the cells, rising; of each whether it is one when its turn comes, so that cells may go and come meanwhile.
 func (h *Heap) live() iter.Seq[int] {
 	return func(yield func(int) bool) {
